@@ -1,0 +1,1 @@
+"""Numbers shown to be primes, or not, by short papers."""
