@@ -251,6 +251,8 @@ class TwoRests(PowersCase):
             with self.subTest(wrong=wrong):
                 self.assertRaises(NoNumber, two_rests, 1, wrong, 1, 5)
                 self.assertRaises(NoNumber, two_rests, 1, 5, 1, wrong)
+                self.assertRaises(NoNumber, two_rests, 1, wrong, 2, 5)
+                self.assertRaises(NoNumber, two_rests, 1, 5, 2, wrong)
                 self.assertRaises(NoNumber, two_rests, 0, wrong, 1, wrong)
 
 
