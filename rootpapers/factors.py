@@ -1,7 +1,7 @@
 """The primes of a number, and bases whose powers don't come to 1 too early."""
 
 from rootpapers.judged import least_part
-from rootpapers.powers import power_by
+from rootpapers.powers import common_of, divided_out, power_by
 
 
 def prime_parts(n):
@@ -9,24 +9,26 @@ def prime_parts(n):
     left = n
     while left > 1:
         prime = least_part(left)
-        times = 0
-        while left % prime == 0:
-            left = left // prime
-            times = times + 1
-        parts.append((prime, times))
+        left_and_times = divided_out(prime, left)
+        parts.append((prime, left_and_times[1]))
+        left = left_and_times[0]
     return parts
 
 
-def comes_early(base, n, primes):
+def primes_of(n):
+    return [prime for prime, times in prime_parts(n)]
+
+
+def comes_early(base, n, exponent, primes):
     for prime in primes:
-        if power_by(base, (n - 1) // prime, n) == 1:
+        if power_by(base, exponent // prime, n) == 1:
             return True
     return False
 
 
-def least_late(p, primes):
-    # All powers of 1 are early.
-    base = 2
-    while comes_early(base, p, primes):
+# From 0 on, which is the one number below 1, and has no power that is 1 by any greater number.
+def least_late(n, exponent, primes):
+    base = 0
+    while common_of(base, n) != 1 or comes_early(base, n, exponent, primes):
         base = base + 1
     return base

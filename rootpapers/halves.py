@@ -33,7 +33,7 @@ def base_shows(n, prime, base):
 def half_of(p):
     if p == 2 or not is_prime(p):
         raise NoPrime(f"{p} is no prime above 2")
-    return (p, [(paper_of(prime), times, least_late(p, [prime])) for prime, times in fewest_parts(p)])
+    return (p, [(paper_of(prime), times, least_late(p, p - 1, [prime])) for prime, times in fewest_parts(p)])
 
 
 # Of all choices of so many parts, that of the greatest powers has the greatest product.

@@ -1,7 +1,7 @@
 """Whether a number is a prime, its least part, and the strong judging by a base."""
 
-from rootpapers.errors import NoNumber
-from rootpapers.powers import power_by, refuse_below
+from rootpapers.errors import NoPrime
+from rootpapers.powers import divided_out, power_by, refuse_above, refuse_below, refuse_even
 
 # Each of the first primes, with the least number that is no prime and yet stands it and all those ahead of it
 # (Jaeschke; Sorenson and Webster): a lesser number that stands them is a prime, and no further base is needed.
@@ -53,6 +53,11 @@ def stands_beyond(n):
     return True
 
 
+def refuse_no_prime(p):
+    if not is_prime(p):
+        raise NoPrime(f"{p} is no prime")
+
+
 def least_part(n):
     refuse_below(2, n)
     # Asked first, so that of a great prime no parts are tried up to its root.
@@ -73,22 +78,15 @@ def least_part(n):
 
 def stands(n, a):
     refuse_below(3, n)
-    if n % 2 == 0:
-        raise NoNumber(f"{n} is even")
+    refuse_even(n)
     refuse_below(2, a)
-    if a > n - 2:
-        raise NoNumber(f"{a} is above {n} less 2")
-    odd = n - 1
-    squarings = 0
-    while odd % 2 == 0:
-        odd = odd // 2
-        squarings = squarings + 1
-    power = power_by(a, odd, n)
+    refuse_above(n - 2, a)
+    odd_and_twos = divided_out(2, n - 1)
+    power = power_by(a, odd_and_twos[0], n)
     if power == 1:
         return True
-    while squarings > 0:
+    for step in range(odd_and_twos[1]):
         if power == n - 1:
             return True
         power = power * power % n
-        squarings = squarings - 1
     return False

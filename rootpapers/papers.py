@@ -1,8 +1,7 @@
 """Papers of primes: judged, counted, and found."""
 
-from rootpapers.errors import NoPrime
 from rootpapers.factors import comes_early, least_late, prime_parts
-from rootpapers.judged import is_prime
+from rootpapers.judged import refuse_no_prime
 from rootpapers.powers import power_by
 
 
@@ -24,7 +23,7 @@ def paper_shows(paper):
         return False
     if power_by(g, p - 1, p) != 1:
         return False
-    return not comes_early(g, p, [paper_number(part[0]) for part in parts])
+    return not comes_early(g, p, p - 1, [paper_number(part[0]) for part in parts])
 
 
 # Of each part the paper and the times alone are read, so that the parts of half papers can be judged here, too.
@@ -70,11 +69,10 @@ def paper_depth(paper):
 
 
 def paper_of(p):
-    if not is_prime(p):
-        raise NoPrime(f"{p} is no prime")
+    refuse_no_prime(p)
     if p == 2:
         return ("two",)
     found = prime_parts(p - 1)
-    g = least_late(p, [prime for prime, times in found])
+    g = least_late(p, p - 1, [prime for prime, times in found])
     # A prime that stands in several parts gets a paper of its own in each, so that no two of the lists are one.
     return ("root", p, g, [(paper_of(prime), times) for prime, times in found])

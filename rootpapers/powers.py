@@ -8,6 +8,16 @@ def refuse_below(least, number):
         raise NoNumber(f"{number} is below {least}")
 
 
+def refuse_above(most, number):
+    if number > most:
+        raise NoNumber(f"{number} is above {most}")
+
+
+def refuse_even(number):
+    if number % 2 == 0:
+        raise NoNumber(f"{number} is even")
+
+
 def common_of(a, b):
     greater = abs(a)
     lesser = abs(b)
@@ -59,6 +69,15 @@ def inverse_by(a, n):
     if found[0] != 1:
         raise NoInverse(f"{a} has no inverse by {n}")
     return found[1] % n
+
+
+def divided_out(divisor, n):
+    left = n
+    times = 0
+    while left % divisor == 0:
+        left = left // divisor
+        times = times + 1
+    return (left, times)
 
 
 def whole_root(n):
