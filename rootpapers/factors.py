@@ -26,7 +26,7 @@ def comes_early(base, n, exponent, primes):
     return False
 
 
-# From 0 on, which is the one number below 1, and has no power that is 1 by any greater number.
+# From 0 on, for by 1 it is 0 that is asked for; by all greater numbers 0 is passed over.
 def least_late(n, exponent, primes):
     base = 0
     while common_of(base, n) != 1 or comes_early(base, n, exponent, primes):

@@ -3,14 +3,14 @@
 from rootpapers.errors import NoPrime
 from rootpapers.factors import least_late, prime_parts
 from rootpapers.judged import is_prime
-from rootpapers.papers import left_by_parts, paper_number, paper_of, parts_show
+from rootpapers.papers import left_by_parts, paper_number, paper_of, papers_show, parts_rise
 from rootpapers.powers import common_of, power_by
 
 
 def half_shows(half):
     n = half[0]
     parts = half[1]
-    if n <= 2 or not parts_show(parts):
+    if n <= 2 or not parts_rise(parts) or not papers_show(parts):
         return False
     left = left_by_parts(n - 1, parts)
     if left is None:

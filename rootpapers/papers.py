@@ -19,26 +19,33 @@ def paper_shows(paper):
     parts = paper[3]
     if p <= 2 or g < 1 or g > p - 1:
         return False
-    if not parts_show(parts) or left_by_parts(p - 1, parts) != 1:
+    if not parts_rise(parts) or left_by_parts(p - 1, parts) != 1:
         return False
-    if power_by(g, p - 1, p) != 1:
+    if power_by(g, p - 1, p) != 1 or comes_early(g, p, p - 1, [paper_number(part[0]) for part in parts]):
         return False
-    return not comes_early(g, p, p - 1, [paper_number(part[0]) for part in parts])
+    # Last, for by now the numbers within are less than p: thousands of papers within one another are not walked down.
+    return papers_show(parts)
 
 
 # Of each part the paper and the times alone are read, so that the parts of half papers can be judged here, too.
-def parts_show(parts):
-    # No paper that is let by has a number below 2, so the first one needs no bound of its own.
+def parts_rise(parts):
+    # No paper that is let by has a number below 2.
     ahead = 1
     for part in parts:
-        number = paper_number(part[0])
-        if number <= ahead or part[1] < 1 or not paper_shows(part[0]):
+        if paper_number(part[0]) <= ahead or part[1] < 1:
             return False
-        ahead = number
+        ahead = paper_number(part[0])
     return True
 
 
-# Parts that show are divided out one by one rather than multiplied: great times would make a far too great product.
+def papers_show(parts):
+    for part in parts:
+        if not paper_shows(part[0]):
+            return False
+    return True
+
+
+# Parts that rise are divided out one by one rather than multiplied: great times would make a far too great product.
 def left_by_parts(number, parts):
     left = number
     for part in parts:

@@ -44,8 +44,8 @@ def roots_by(a, p):
     return sorted([root, p - root])
 
 
-# The way of Tonelli and Shanks: root's square is the square times slip, and slip is driven to 1 by squares of turn,
-# whose order, a power of two, is twice as great as need be to mend what slip's power shows.
+# The way of Tonelli and Shanks: all along root's square is the square times slip, and the order of slip is a power of
+# two, which each step halves, if it must, by the square of turn, until slip is 1.
 def one_root(square, p):
     odd = divided_out(2, p - 1)[0]
     root = power_by(square, (odd + 1) // 2, p)

@@ -182,6 +182,44 @@ class Language(unittest.TestCase):
         self.each_node(gather)
         self.each_node(check)
 
+    def test_locals_are_not_called_like_imports_and_classes(self):
+        def check(path, tree):
+            taken = {node.name for node in tree.body if isinstance(node, ast.ClassDef)}
+            for node in tree.body:
+                if isinstance(node, ast.ImportFrom):
+                    taken.update(alias.name for alias in node.names)
+            for node in ast.walk(tree):
+                if isinstance(node, ast.arg):
+                    self.assertNotIn(node.arg, taken)
+                if isinstance(node, ast.Name) and isinstance(node.ctx, ast.Store):
+                    self.assertNotIn(node.id, taken)
+        self.each_file(check)
+
+    def test_no_method_is_a_value_of_another_class(self):
+        methods = []
+        values = set()
+
+        def gather(node):
+            if isinstance(node, ast.ClassDef):
+                own = [inner.name for inner in node.body if isinstance(inner, ast.FunctionDef)]
+                self.assertEqual(len(own), len(set(own)))
+                methods.extend(own)
+            if isinstance(node, ast.Attribute) and isinstance(node.ctx, ast.Store):
+                values.add(node.attr)
+        self.each_node(gather)
+        self.assertFalse(values.intersection(methods))
+        for kind in (str, int, list, dict, set, bytes, tuple):
+            for name in values.union(methods) - DUNDERS:
+                self.assertFalse(hasattr(kind, name), name)
+
+    def test_texts_with_names_in_them(self):
+        def check(node):
+            if isinstance(node, ast.FormattedValue):
+                self.assertIsInstance(node.value, ast.Name)
+                self.assertIn(node.conversion, (-1, ord("r")))
+                self.assertIsNone(node.format_spec)
+        self.each_node(check)
+
     def test_powers_texts_and_is(self):
         def check(node):
             if isinstance(node, (ast.BinOp, ast.AugAssign)) and isinstance(node.op, ast.Pow):

@@ -137,7 +137,8 @@ class NoneShows(unittest.TestCase):
         seen = {(word, due): 0 for word in WORDS for due in (True, False)}
         for turn in range(6000):
             n = chance.choice((chance.randrange(-20, 100), chance.choice(CARMICHAELS), chance.randrange(SIXTY)))
-            number = chance.choice((chance.randrange(-5, 50), chance.randrange(abs(n) + 5), n - chance.randrange(-3, 4)))
+            near = n - chance.randrange(-3, 4)
+            number = chance.choice((chance.randrange(-5, 50), chance.randrange(abs(n) + 5), near))
             word = chance.choice(WORDS)
             due = none_by_the_words(n, (word, number))
             seen[(word, due)] += 1

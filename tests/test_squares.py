@@ -48,7 +48,8 @@ class SignBy(SignCase):
     def test_great_primes(self):
         chance = random.Random(26)
         for p in PRIMES_TO_TWELFTH:
-            for a in [0, 1, -1, 2, -2, 3, p, -p, p - 1, p + 1, SIXTY - 1] + [chance.randrange(-p, p) for k in range(30)]:
+            some = [chance.randrange(-p, p) for k in range(30)]
+            for a in [0, 1, -1, 2, -2, 3, p, -p, p - 1, p + 1, SIXTY - 1] + some:
                 self.assert_sign(sign_by(a, p), sign_by_euler(a, p))
                 self.assert_sign(sign_by(a * a, p), 0 if a % p == 0 else 1)
 
